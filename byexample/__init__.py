@@ -1,0 +1,1 @@
+"""Byexample: rules found from examples."""
