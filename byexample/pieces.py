@@ -2,6 +2,8 @@
 
 from byexample.places import spot
 
+DEEDS = ("copy", "raise", "sink")
+
 
 def stretch(start, end, text):
     first = spot(start, text)
@@ -11,14 +13,18 @@ def stretch(start, end, text):
     return text[first:last]
 
 
+def done_to(deed, signs):
+    if deed == "copy":
+        return signs
+    return signs.upper() if deed == "raise" else signs.lower()
+
+
 def answer_of(piece, text):
     deed = piece[0]
     if deed == "word":
         return piece[1]
     signs = stretch(piece[1], piece[2], text)
-    if signs is None or deed == "copy":
-        return signs
-    return signs.upper() if deed == "raise" else signs.lower()
+    return None if signs is None else done_to(deed, signs)
 
 
 def row_answer(row, text):

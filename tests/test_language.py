@@ -157,6 +157,43 @@ class LanguageTest(unittest.TestCase):
                     else:
                         self.assertIsInstance(node, (ast.ImportFrom, ast.FunctionDef, ast.ClassDef, ast.Assign))
 
+    def test_plain_values_at_the_top(self):
+        for tree in self.trees:
+            with self.subTest(tree.name):
+                for node in [node for node in tree.top.body if isinstance(node, ast.Assign)]:
+                    value = ast.literal_eval(node.value)
+                    if isinstance(value, (list, dict)):
+                        within = value.values() if isinstance(value, dict) else value
+                        self.assertFalse([part for part in within if isinstance(part, (list, dict, set))], node.lineno)
+
+    def test_no_local_is_called_like_an_import_or_a_class(self):
+        for tree in self.trees:
+            with self.subTest(tree.name):
+                taken = {alias.name for node in tree.of(ast.ImportFrom) for alias in node.names}
+                taken |= {node.name for node in tree.of(ast.ClassDef)}
+                names = {node.arg for node in tree.of(ast.arg)}
+                names |= {node.id for node in tree.of(ast.Name) if isinstance(node.ctx, ast.Store)}
+                self.assertEqual(taken & names, set())
+
+    def test_no_two_files_draw_from_one_another(self):
+        drawn = {}
+        for tree in self.trees:
+            drawn["byexample." + tree.name[:-3]] = {node.module for node in tree.of(ast.ImportFrom)}
+        while drawn:
+            ended = [name for name in drawn if not drawn[name] & set(drawn)]
+            self.assertNotEqual(ended, [], drawn)
+            for name in ended:
+                drawn.pop(name)
+
+    def test_no_name_is_a_method_and_a_value(self):
+        methods = set()
+        kept = set()
+        for tree in self.trees:
+            for node in tree.of(ast.ClassDef):
+                methods |= {part.name for part in node.body if isinstance(part, ast.FunctionDef)}
+            kept |= {node.attr for node in tree.of(ast.Attribute) if isinstance(node.ctx, ast.Store)}
+        self.assertEqual(methods & kept, set())
+
 
 if __name__ == "__main__":
     unittest.main()
