@@ -29,6 +29,10 @@ SIX = [
     ("Emmy Noether, 1882", "1882- Noether"),
     ("Georg Cantor, 1845", "1845- Cantor"),
 ]
+LONG_TEXTS = (
+    LONGEST, "Ada Byron, 1815-12/10 xy", "aaaaaaaaaaaaAAAAAAAAAA-1", "aAaAaAaAaAaAaAaAaAaAa 12",
+    "12345678901234567890 aBc", "-./, -./, -./, -./, aA01",
+)
 
 # Words and examples that leave rows over; the kinds of cases are told ahead of each.
 CASES = (
@@ -52,6 +56,8 @@ CASES = (
     ([], [(LONGEST, LONGEST * 3)]),
     (["x"], [(LONGEST, LONGEST + LONGEST.upper() + LONGEST.lower())]),
     ([], [("aaaaaaaaaaaaaaaaaaaaaaaa", "a" * 72)]),
+    (["a", "A", "-", " ", "1", "aaaaaaaa"], [(text, text * 3) for text in LONG_TEXTS]),
+    (["a", "A", "-", " ", "1", "aaaaaaaa"], [(text, text.upper() + text.lower() + "a") for text in LONG_TEXTS]),
     (["abcdefgh"], [("1", "abcdefgh" * 3)]),
     ([], [("aaaaaaaaaaaaaaaaaaaaaaaa", "A" * 50), ("bbbbbbbbbbbbbbbbbbbbbbbb", "B" * 50)]),
     (["aaaaaaaa", "a", "aa", "aaa", "A", "-"], [("aAaAaAaAaAaAaAaAaAaAaAaA", "a" * 30), ("AAaa", "a" * 10)]),
@@ -307,7 +313,7 @@ class OrderAndOwnersTest(TablesTest):
             self.assertEqual(own_examples, list(reversed(examples)))
 
     def test_what_is_done_to_it_behind_the_call_changes_nothing(self):
-        for words, examples in CASES[:12] + (([], []), (["a", "-"], [])):
+        for words, examples in CASES + (([], []), (["a", "-"], [])):
             with self.subTest(words=words, examples=examples):
                 kept = self.told(table_of(words, examples))
                 for spoil in (list.clear, list.reverse, lambda things: things.append(None)):
