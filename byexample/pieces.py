@@ -5,26 +5,24 @@ from byexample.places import spot
 DEEDS = ("copy", "raise", "sink")
 
 
-def stretch(start, end, text):
-    first = spot(start, text)
-    last = spot(end, text)
-    if first is None or last is None or first >= last:
-        return None
-    return text[first:last]
-
-
 def done_to(deed, signs):
     if deed == "copy":
         return signs
     return signs.upper() if deed == "raise" else signs.lower()
 
 
+def stretch_answer(deed, first, last, text):
+    # The places were looked for ahead of this: first and last are their spots, None where they were not found.
+    if first is None or last is None or first >= last:
+        return None
+    return done_to(deed, text[first:last])
+
+
 def answer_of(piece, text):
     deed = piece[0]
     if deed == "word":
         return piece[1]
-    signs = stretch(piece[1], piece[2], text)
-    return None if signs is None else done_to(deed, signs)
+    return stretch_answer(deed, spot(piece[1], text), spot(piece[2], text), text)
 
 
 def row_answer(row, text):

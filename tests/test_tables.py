@@ -1,125 +1,13 @@
-import collections
 import itertools
 import unittest
 
 from byexample.errors import NoNumber
 from byexample.numbers import many, row_at, row_number
-from byexample.pieces import answer_of, row_answer
-from byexample.places import all_places
 from byexample.programs import check
 from byexample.tables import table_of
 
-from helper import assert_refused, assert_same
-
-STRETCHES = [
-    (deed, start, end) for deed in ("copy", "raise", "sink") for start in all_places() for end in all_places()
-]
-
-BEGIN = ("any", 1, "ahead")
-END = ("any", -1, "behind")
-WHOLE = ("copy", BEGIN, END)
-
-NAMES = [("Ada Byron", "A. BYRON"), ("Alan Turing", "A. TURING"), ("Grace Hopper", "G. HOPPER")]
-LONGEST = "abcd EFGH 01-23. ijKL/45"
-SIX = [
-    ("Ada Byron, 1815", "1815- Byron"),
-    ("Alan Turing, 1912", "1912- Turing"),
-    ("Kurt Godel, 1906", "1906- Godel"),
-    ("Grace Hopper, 1906", "1906- Hopper"),
-    ("Emmy Noether, 1882", "1882- Noether"),
-    ("Georg Cantor, 1845", "1845- Cantor"),
-]
-LONG_TEXTS = (
-    LONGEST, "Ada Byron, 1815-12/10 xy", "aaaaaaaaaaaaAAAAAAAAAA-1", "aAaAaAaAaAaAaAaAaAaAa 12",
-    "12345678901234567890 aBc", "-./, -./, -./, -./, aA01",
-)
-
-# Words and examples that leave rows over; the kinds of cases are told ahead of each.
-CASES = (
-    # One example: an answer that is a stretch, a word, both.
-    ([], [("Ada", "Ada")]),
-    (["Ada"], [("Ada", "Ada")]),
-    (["-", "x"], [("ab", "ab-x")]),
-    (["a"], [("", "a")]),
-    (["a", "aa", "aaa"], [("", "aaa")]),
-    (["a", "aa"], [("a", "aa")]),
-    (["."], [("Ada Byron", "A.B")]),
-    ([" ", "A"], [("a b", "A B")]),
-    # Several examples.
-    ([". "], NAMES),
-    ([". ", ".", " "], NAMES),
-    (["- ", "-", " ", "1", "a", "Z"], SIX),
-    ([], [("abc", "ABC"), ("x", "X")]),
-    (["-"], [("ab1", "ab-1"), ("q22", "q-22")]),
-    (["yes"], [("a", "yes"), ("B", "yes"), ("", "yes")]),
-    # Answers longer than any text.
-    ([], [(LONGEST, LONGEST * 3)]),
-    (["x"], [(LONGEST, LONGEST + LONGEST.upper() + LONGEST.lower())]),
-    ([], [("aaaaaaaaaaaaaaaaaaaaaaaa", "a" * 72)]),
-    (["a", "A", "-", " ", "1", "aaaaaaaa"], [(text, text * 3) for text in LONG_TEXTS]),
-    (["a", "A", "-", " ", "1", "aaaaaaaa"], [(text, text.upper() + text.lower() + "a") for text in LONG_TEXTS]),
-    (["abcdefgh"], [("1", "abcdefgh" * 3)]),
-    ([], [("aaaaaaaaaaaaaaaaaaaaaaaa", "A" * 50), ("bbbbbbbbbbbbbbbbbbbbbbbb", "B" * 50)]),
-    (["aaaaaaaa", "a", "aa", "aaa", "A", "-"], [("aAaAaAaAaAaAaAaAaAaAaAaA", "a" * 30), ("AAaa", "a" * 10)]),
-)
-
-# Words and examples that nothing fits.
-EMPTY_CASES = (
-    ([], [("a", "b")]),
-    (["a"], [("a", "")]),
-    ([], [("", "")]),
-    (["a"], [("a", ""), ("b", "b")]),
-    (["b"], [("a", "b"), ("c", "")]),
-    ([], [("", "a")]),
-    (["a"], [("", "aaaa")]),
-    (["a", "b"], [("x", "a"), ("y", "b")]),
-    ([], [("abcd", "dcba")]),
-    ([], [("a", "a"), ("b", "a")]),
-    (["abcdefgh"], [(LONGEST, "z" * 72)]),
-    (["x"], [(LONGEST, LONGEST * 3 + "x")]),
-    (["-"], [("ab", "ab-"), ("AB", "-AB")]),
-)
-
-
-def pieces_with(words):
-    return [("word", word) for word in words] + STRETCHES
-
-
-def fits(row, words, examples):
-    for piece in row:
-        if piece[0] == "word" and piece[1] not in words:
-            return False
-    return all(row_answer(row, text) == answer for text, answer in examples)
-
-
-def counted(words, examples):
-    """How many rows fit, counted by the answers of all pieces, whatever the table does."""
-    pieces = collections.Counter()
-    for piece in pieces_with(words):
-        answers = tuple(answer_of(piece, text) for text, answer in examples)
-        if None not in answers:
-            pieces[answers] += 1
-
-    def ways(rest, length):
-        if length == 0:
-            return 0 if any(rest) else 1
-        found = 0
-        for answers, number in pieces.items():
-            if all(part.startswith(answer) for part, answer in zip(rest, answers)):
-                behind = tuple(part[len(answer):] for part, answer in zip(rest, answers))
-                found += number * ways(behind, length - 1)
-        return found
-
-    wanted = tuple(answer for text, answer in examples)
-    return sum(ways(wanted, length) for length in (1, 2, 3))
-
-
-def some_numbers(count):
-    """All numbers of a small table; of a great one the first ones, the last ones and some between."""
-    if count <= 600:
-        return list(range(count))
-    numbers = set(range(20)) | set(range(count - 20, count)) | {count * part // 97 for part in range(97)}
-    return sorted(numbers)
+from helper import BEGIN, CASES, EMPTY_CASES, END, NAMES, SIX, SMALL_SET, WHOLE
+from helper import assert_refused, assert_same, counted, fits, pieces_with, some_numbers
 
 
 class TablesTest(unittest.TestCase):
@@ -225,22 +113,11 @@ class NoExamplesTest(TablesTest):
 class SmallSetTest(TablesTest):
     """All rows of one to three of some pieces are gone through."""
 
-    PIECES = [
-        ("word", "a"), ("word", "b"), ("word", "aa"), ("word", "-"), WHOLE, ("raise", BEGIN, END), ("sink", BEGIN, END),
-        ("copy", BEGIN, ("any", 1, "behind")), ("copy", ("any", 1, "behind"), END), ("copy", ("any", 2, "ahead"), END),
-        ("copy", BEGIN, ("any", -1, "ahead")), ("copy", ("any", -1, "ahead"), END), ("copy", END, BEGIN),
-        ("raise", ("small", 1, "ahead"), ("small", 1, "behind")),
-        ("sink", ("great", 1, "ahead"), ("great", -1, "behind")),
-        ("copy", ("figure", 1, "ahead"), ("figure", -1, "behind")),
-        ("copy", ("mark", 1, "ahead"), ("mark", 1, "behind")),
-        ("copy", ("small", 2, "behind"), ("any", -2, "ahead")),
-    ]
-
     def assert_numbers(self, words, examples):
         table = table_of(words, examples)
         numbers = {}
         for length in (1, 2, 3):
-            for row in itertools.product(self.PIECES, repeat=length):
+            for row in itertools.product(SMALL_SET, repeat=length):
                 number = row_number(table, row)
                 self.assertEqual(number is not None, fits(row, words, examples), row)
                 if number is not None:
